@@ -1,0 +1,1 @@
+"""The tests of cutorall; run them from the folder above with: python3 -m unittest discover -t . -s tests"""
