@@ -6,6 +6,11 @@ def is_integer(value):
     return isinstance(value, int) and not isinstance(value, bool)
 
 
+def is_number(value):
+    """Whether value is an integer from 0 on."""
+    return is_integer(value) and value >= 0
+
+
 def is_number_below(value, limit):
     """Whether value is an integer from 0 on and below limit."""
     return is_integer(value) and 0 <= value < limit

@@ -4,8 +4,9 @@ import inspect
 import itertools
 import unittest
 
-from cutorall.errors import InvalidFilling, InvalidNumber, InvalidPrice, PriceError, Undefined
+from cutorall.errors import InvalidFilling, InvalidNumber, InvalidPrice, Undefined
 from cutorall.prices import Price
+from tests.cases import Case, is_plain
 from tests.strange import AlwaysEqual, any_values, rows
 
 # Amounts that are all unlike, so that a row mistaken for another one shows.
@@ -22,25 +23,7 @@ def samples():
     return [Price(size, amounts) for size, amounts in SAMPLES.items()]
 
 
-def is_plain(value):
-    """Whether value is an integer that is no bool."""
-    return type(value) is int
-
-
-class PriceCase(unittest.TestCase):
-
-    def assert_error(self, error, kept, call, *args, **named):
-        """The call raises just this error, which keeps just these arguments."""
-        with self.assertRaises(PriceError) as caught:
-            call(*args, **named)
-        self.assertIs(type(caught.exception), error)
-        self.assertEqual(vars(caught.exception), kept)
-        return caught.exception
-
-    def assert_wrong(self, error, value, call, *args, **named):
-        """The call raises this error, which keeps the value itself."""
-        made = self.assert_error(error, {"value": value}, call, *args, **named)
-        self.assertIs(made.value, value)
+class PriceCase(Case):
 
     def assert_price(self, price, size, amounts):
         self.assertIs(type(price), Price)

@@ -1,0 +1,91 @@
+"""Books and puzzles for the tests, ordinary and strange ones, and what is told of them by trying all."""
+
+import itertools
+import random
+
+from cutorall.books import Book
+from cutorall.prices import Price
+from cutorall.puzzles import Puzzle
+from tests.strange import rows
+
+LIKE = Price(2, (0, 3, 3, 0))
+UNLIKE = Price(2, (1, 0, 0, 1))
+RATHER_YES = Price(1, (2, 0))
+SKEW = Price(3, (4, -9, 0, 25, 6, -1, 13, 2))
+LIKE_THREE = Price(3, (0, 5, 5, 5, 5, 5, 5, 0))
+
+
+def prices_of(size, amounts):
+    """All prices of this size with amounts out of these."""
+    return [Price(size, chosen) for chosen in itertools.product(amounts, repeat=2 ** size)]
+
+
+def any_price(source, size, low, high):
+    """Some price of this size with amounts from low to high."""
+    return Price(size, [source.randint(low, high) for _ in range(2 ** size)])
+
+
+def any_puzzle(source, cell_count, tie_count, low=-4, high=4):
+    """Some puzzle over a book with prices of each size, one of a size 2 or 3 that is bent."""
+    sizes = [1, 2, 3, source.randint(1, 3)]
+    book = Book([any_price(source, size, low, high) for size in sizes] + [LIKE, LIKE_THREE])
+    ties = []
+    for _ in range(tie_count if cell_count else 0):
+        price = source.randrange(6)
+        cells = tuple([source.randrange(cell_count) for _ in range(book.prices[price].size)])
+        ties.append((price, cells, source.randint(1, 3)))
+    return Puzzle(book, cell_count, ties)
+
+
+def bent_puzzle(source, cell_count, tie_count):
+    """Some puzzle over a book whose prices are bent."""
+    singles = [any_price(source, 1, -6, 6) for _ in range(2)]
+    triple = Price(3, (0, 0, 0, 0, 0, 0, 0, -3))
+    lifted = Price(3, (0, 2, 2, 2, 2, 2, 2, 0))
+    book = Book(singles + [LIKE, LIKE_THREE, triple, lifted])
+    ties = []
+    for _ in range(tie_count if cell_count else 0):
+        price = source.randrange(6)
+        cells = tuple([source.randrange(cell_count) for _ in range(book.prices[price].size)])
+        ties.append((price, cells, source.randint(1, 3)))
+    return Puzzle(book, cell_count, ties)
+
+
+def many_puzzles(count, most_cells=5, most_ties=6, seed=7):
+    """Some puzzles of few cells and ties, the same ones at each call; some have no cells, some no ties."""
+    source = random.Random(seed)
+    puzzles = [any_puzzle(source, 0, 0), any_puzzle(source, 3, 0)]
+    for number in range(count):
+        make = any_puzzle if number % 3 else bent_puzzle
+        puzzles.append(make(source, source.randint(0, most_cells), source.randint(0, most_ties)))
+    return puzzles
+
+
+def starts_of(cell_count):
+    """All starts of a puzzle of so many cells."""
+    starts = []
+    for choice in itertools.product((None, 0, 1), repeat=cell_count):
+        starts.append(tuple([(cell, value) for cell, value in enumerate(choice) if value is not None]))
+    return starts
+
+
+def some_starts(cell_count, source, count):
+    """The empty start, one that fixes every cell, and some others."""
+    starts = [(), tuple([(cell, source.randint(0, 1)) for cell in range(cell_count)])]
+    for _ in range(count):
+        cells = sorted(source.sample(range(cell_count), source.randint(0, cell_count)))
+        starts.append(tuple([(cell, source.randint(0, 1)) for cell in cells]))
+    return starts
+
+
+def total(puzzle, filling):
+    """The total of the filling, tie by tie."""
+    told = 0
+    for price, cells, times in puzzle.ties:
+        told += times * puzzle.book.prices[price].cost(tuple([filling[cell] for cell in cells]))
+    return told
+
+
+def fillings_that_keep(puzzle, start):
+    """All fillings that keep the start, ascending."""
+    return [row for row in rows(puzzle.cell_count) if all([row[cell] == value for cell, value in start])]
