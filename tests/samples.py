@@ -89,3 +89,64 @@ def total(puzzle, filling):
 def fillings_that_keep(puzzle, start):
     """All fillings that keep the start, ascending."""
     return [row for row in rows(puzzle.cell_count) if all([row[cell] == value for cell, value in start])]
+
+
+def sum_of_numbers(numbers):
+    """The sum whose members are these letters with their numbers, without those of number 0."""
+    return tuple(sorted([(letters, number) for letters, number in numbers.items() if number != 0]))
+
+
+def any_sum(source, letter_count, most_members, most=4):
+    """Some sum over so many letters."""
+    numbers = {}
+    for _ in range(source.randint(0, most_members)):
+        letters = tuple(sorted(source.sample(range(letter_count), source.randint(0, min(3, letter_count)))))
+        numbers[letters] = source.randint(-most, most)
+    return sum_of_numbers(numbers)
+
+
+def bent_sum(source, letter_count, most_members, most=4):
+    """Some sum that is bent, often such that a number more for a pair would be too much."""
+    numbers = {}
+    for letters, number in any_sum(source, letter_count, most_members, most):
+        if len(letters) != 2:
+            numbers[letters] = number
+    for pair in itertools.combinations(range(letter_count), 2):
+        above = [number for letters, number in numbers.items()
+                 if len(letters) == 3 and set(pair) <= set(letters) and number > 0]
+        numbers[pair] = -sum(above) - source.choice((0, 0, 0, 1, most))
+    return sum_of_numbers(numbers)
+
+
+def worth(told, row):
+    """The worth of the sum at the row, member by member."""
+    found = 0
+    for letters, number in told:
+        product = number
+        for letter in letters:
+            product *= row[letter]
+        found += product
+    return found
+
+
+def is_bent_by_rows(told, letter_count):
+    """Whether the and and the or of no two rows have together more worth than the two."""
+    worths = {row: worth(told, row) for row in rows(letter_count)}
+    for one, other in itertools.combinations(rows(letter_count), 2):
+        both = tuple([min(here, there) for here, there in zip(one, other)])
+        either = tuple([max(here, there) for here, there in zip(one, other)])
+        if worths[both] + worths[either] > worths[one] + worths[other]:
+            return False
+    return True
+
+
+def cut_rooms(network, values):
+    """The rooms of the arcs from a node at yes to one at no."""
+    return sum([room for source, target, room in network[2] if values[source] == 1 and values[target] == 0])
+
+
+def least_cuts(network):
+    """The least rooms that a row of the nodes cuts, and the rows that cut just these, by trying all rows."""
+    values = [(1, 0) + row for row in rows(network[0] - 2)]
+    least = min([cut_rooms(network, row) for row in values])
+    return least, [row for row in values if cut_rooms(network, row) == least]
