@@ -57,10 +57,9 @@ def _add_pair_twice(numbers, one, other, number):
         add_to(numbers, (2 * one + 1, 2 * other), -number)
 
 
-def doubled_sum(puzzle, start=()):
+def doubled_of(told, letter_count):
     """The pair (doubled, count): twice the paired sum, each letter v of which stands for 2 v and its opposite."""
-    # What is no start is told by sum_of.
-    paired, count = paired_sum(sum_of(puzzle, start), puzzle.cell_count)
+    paired, count = paired_sum(told, letter_count)
     numbers = {}
     for letters, number in paired:
         if len(letters) == 0:
@@ -70,6 +69,12 @@ def doubled_sum(puzzle, start=()):
         else:
             _add_pair_twice(numbers, letters[0], letters[1], number)
     return sum_from(numbers), 2 * count
+
+
+def doubled_sum(puzzle, start=()):
+    """The pair (doubled, count) of the sum of the puzzle and the start."""
+    # What is no start is told by sum_of.
+    return doubled_of(sum_of(puzzle, start), puzzle.cell_count)
 
 
 def settled(puzzle, start=()):

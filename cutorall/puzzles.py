@@ -87,6 +87,23 @@ def is_start(puzzle, value):
     return all([one[0] < other[0] for one, other in zip(value, value[1:])])
 
 
+def put_in(start, cell, value):
+    """The start with this pair put in."""
+    return tuple(sorted(start + ((cell, value),)))
+
+
+def free_cells(puzzle, start):
+    """The cells that are not fixed by the start, rising."""
+    fixed = [cell for cell, _ in start]
+    return tuple([cell for cell in range(puzzle.cell_count) if cell not in fixed])
+
+
+def kept(start, filling):
+    """The filling with the values of the start put in."""
+    fixed = {cell: value for cell, value in start}
+    return tuple([fixed.get(cell, value) for cell, value in enumerate(filling)])
+
+
 def fillings_of(puzzle, start):
     """All fillings that keep the start, ascending."""
     fixed = {cell: value for cell, value in start}

@@ -90,6 +90,29 @@ def sum_of(puzzle, start=()):
     return sum_from(numbers)
 
 
+def put_into(told, letter, value):
+    """The sum over the other letters that is worth at each row what told is worth with the letter at the value."""
+    numbers = {}
+    for letters, number in told:
+        if value == 1 or letter not in letters:
+            add_to(numbers, tuple([other for other in letters if other != letter]), number)
+    return sum_from(numbers)
+
+
+def worths(told, letters):
+    """The worth at each row of values of these letters, which are all that the sum has, rows ascending."""
+    bits = {letter: 1 << place for place, letter in enumerate(reversed(letters))}
+    found = [0] * (1 << len(letters))
+    for members, number in told:
+        found[sum([bits[letter] for letter in members])] += number
+    # Letter by letter, a row with yes gets what the row with no there has: in the end that of all rows below it.
+    for bit in list(bits.values()):
+        for row in range(len(found)):
+            if row & bit != 0:
+                found[row] += found[row ^ bit]
+    return found
+
+
 def price_of(told, size):
     """The price whose rows cost what the sum over size letters is worth at them."""
     if not is_size(size):

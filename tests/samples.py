@@ -25,16 +25,21 @@ def any_price(source, size, low, high):
     return Price(size, [source.randint(low, high) for _ in range(2 ** size)])
 
 
+def puzzle_over(source, book, cell_count, tie_count):
+    """Some puzzle over the book, without ties if it has no cells."""
+    ties = []
+    for _ in range(tie_count if cell_count else 0):
+        price = source.randrange(len(book))
+        cells = tuple([source.randrange(cell_count) for _ in range(book.prices[price].size)])
+        ties.append((price, cells, source.randint(1, 3)))
+    return Puzzle(book, cell_count, ties)
+
+
 def any_puzzle(source, cell_count, tie_count, low=-4, high=4):
     """Some puzzle over a book with prices of each size, one of a size 2 or 3 that is bent."""
     sizes = [1, 2, 3, source.randint(1, 3)]
     book = Book([any_price(source, size, low, high) for size in sizes] + [LIKE, LIKE_THREE])
-    ties = []
-    for _ in range(tie_count if cell_count else 0):
-        price = source.randrange(6)
-        cells = tuple([source.randrange(cell_count) for _ in range(book.prices[price].size)])
-        ties.append((price, cells, source.randint(1, 3)))
-    return Puzzle(book, cell_count, ties)
+    return puzzle_over(source, book, cell_count, tie_count)
 
 
 def bent_puzzle(source, cell_count, tie_count):
@@ -43,12 +48,7 @@ def bent_puzzle(source, cell_count, tie_count):
     triple = Price(3, (0, 0, 0, 0, 0, 0, 0, -3))
     lifted = Price(3, (0, 2, 2, 2, 2, 2, 2, 0))
     book = Book(singles + [LIKE, LIKE_THREE, triple, lifted])
-    ties = []
-    for _ in range(tie_count if cell_count else 0):
-        price = source.randrange(6)
-        cells = tuple([source.randrange(cell_count) for _ in range(book.prices[price].size)])
-        ties.append((price, cells, source.randint(1, 3)))
-    return Puzzle(book, cell_count, ties)
+    return puzzle_over(source, book, cell_count, tie_count)
 
 
 def many_puzzles(count, most_cells=5, most_ties=6, seed=7):
@@ -91,6 +91,18 @@ def fillings_that_keep(puzzle, start):
     return [row for row in rows(puzzle.cell_count) if all([row[cell] == value for cell, value in start])]
 
 
+def cheapest_of(puzzle, start):
+    """The least total of the fillings that keep the start, and all of these that have it, by trying all."""
+    totals = {filling: total(puzzle, filling) for filling in fillings_that_keep(puzzle, start)}
+    least = min(totals.values())
+    return least, [filling for filling in totals if totals[filling] == least]
+
+
+def common(fillings):
+    """The pairs (cell, value) that all these fillings have."""
+    return tuple([(cell, values[0]) for cell, values in enumerate(zip(*fillings)) if len(set(values)) == 1])
+
+
 def sum_of_numbers(numbers):
     """The sum whose members are these letters with their numbers, without those of number 0."""
     return tuple(sorted([(letters, number) for letters, number in numbers.items() if number != 0]))
@@ -127,6 +139,44 @@ def worth(told, row):
             product *= row[letter]
         found += product
     return found
+
+
+def rising_price(source, size, most):
+    """Some price by which a further yes never costs less."""
+    costs = {}
+    for row in rows(size):
+        below = [costs[row[:place] + (0,) + row[place + 1:]] for place in range(size) if row[place] == 1]
+        costs[row] = max(below + [-most] * (not below)) + source.choice((0, 0, 1, most))
+    return Price(size, list(costs.values()))
+
+
+def price_of_kind(source, word, size, most=5):
+    """Some price of this kind, perhaps of others too; of any kind or none for "any"."""
+    if word == "bent":
+        told = bent_sum(source, size, 5, most)
+        return Price(size, [worth(told, row) for row in rows(size)])
+    if word in ("rising", "falling"):
+        price = rising_price(source, size, most)
+        return price if word == "rising" else price.opposite()
+    price = any_price(source, size, -most, most)
+    if word == "any":
+        return price
+    least_at = 0 if word == "all no" else 2 ** size - 1
+    amounts = list(price.amounts)
+    amounts[least_at] = min(amounts) - source.choice((0, 0, 1))
+    return Price(size, amounts)
+
+
+def book_of_kind(source, word, most=5):
+    """Some book of this kind, of one to four prices."""
+    return Book([price_of_kind(source, word, source.randint(1, 3), most) for _ in range(source.randint(1, 4))])
+
+
+def many_books(count, seed=20, most=5):
+    """Some books of each kind and others, the same ones at each call."""
+    source = random.Random(seed)
+    words = ("all no", "all yes", "bent", "rising", "falling", "any", "any")
+    return [book_of_kind(source, words[number % 7], source.choice((1, 2, most))) for number in range(count)]
 
 
 def is_bent_by_rows(told, letter_count):

@@ -6,6 +6,7 @@ import unittest
 
 from cutorall import doubled
 from cutorall.books import Book
+from cutorall.cheapest import sure_cells
 from cutorall.doubled import doubled_sum, paired_sum, settled
 from cutorall.errors import InvalidStart, InvalidSum
 from cutorall.networks import network_of
@@ -13,8 +14,8 @@ from cutorall.prices import Price
 from cutorall.puzzles import Puzzle
 from tests.cases import Case
 from tests.samples import (
-    LIKE, RATHER_YES, SKEW, UNLIKE, any_puzzle, any_sum, bent_puzzle, bent_sum, fillings_that_keep, is_bent_by_rows,
-    least_cuts, many_puzzles, some_starts, starts_of, sum_of_numbers, total, worth)
+    LIKE, RATHER_YES, SKEW, UNLIKE, any_puzzle, any_sum, bent_puzzle, bent_sum, cheapest_of, common,
+    fillings_that_keep, is_bent_by_rows, least_cuts, many_puzzles, some_starts, starts_of, sum_of_numbers, total, worth)
 from tests.strange import any_values, rows
 from tests.test_sums import is_right_sum, right_sum_of
 
@@ -83,11 +84,6 @@ def right_doubled(told, letter_count):
             put((firsts[0], seconds[1]), -number)
             put((seconds[0], firsts[1]), -number)
     return sum_of_numbers(numbers), 2 * count
-
-
-def common(fillings):
-    """The pairs (cell, value) that all these fillings have."""
-    return tuple([(cell, values[0]) for cell, values in enumerate(zip(*fillings)) if len(set(values)) == 1])
 
 
 def put_into(filling, pairs):
@@ -334,11 +330,10 @@ class SettledTest(Case):
                 if not is_bent_by_rows(right_sum_of(puzzle, start), puzzle.cell_count):
                     continue
                 bent += 1
-                kept = fillings_that_keep(puzzle, start)
-                least = min([total(puzzle, filling) for filling in kept])
-                cheapest = [filling for filling in kept if total(puzzle, filling) == least]
+                _, cheapest = cheapest_of(puzzle, start)
                 found = tuple(sorted(start + settled(puzzle, start)))
                 self.assert_same(found, common(cheapest))
+                self.assert_same(sure_cells(puzzle, start), found)
         self.assertGreater(bent, 200)
 
     def test_thirty_cells_and_a_hundred_ties(self):
