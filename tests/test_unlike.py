@@ -131,6 +131,13 @@ class UnlikeTest(UnlikeCase):
             for fixed in (False, True):
                 self.assert_unlike(Book([UNLIKE, Price(2, amounts)]), fixed)
 
+    def test_forcing_that_another_price_would_outweigh(self):
+        # The second price alone parts the cells, by 1 from both no; the first one wants them alike by far more.
+        for first, second in (((-999999, 5, 1, -999999), (1, 0, 0, 999999)), ((-999999, 5, 1, -999999), (999999, 0, 0, 1)),
+                              ((-50, 2, 5, -50), (3, 0, 0, 1)), ((-50, 2, 5, -49), (1, 0, 0, 1))):
+            for fixed in (False, True):
+                self.assertIsNotNone(self.assert_unlike(Book([Price(2, first), Price(2, second)]), fixed))
+
     def test_equal_calls_return_equal_results(self):
         for one, other in zip(many_books(60, 63), many_books(60, 63)):
             for fixed in (False, True):
